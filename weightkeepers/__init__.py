@@ -1,0 +1,1 @@
+# Defines nothing: each name is imported from the module that defines it.
