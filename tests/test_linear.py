@@ -159,7 +159,8 @@ class Reduced(unittest.TestCase):
             self.assertEqual({len(found) for found in tables_of.values()}, {1})
 
     def test_pivots_that_skip_places(self):
-        self.assertEqual(reduced(((0, 2, 1, 0, 1), (0, 0, 0, 3, 1)), 5, 5), (((0, 1, 3, 0, 3), (0, 0, 0, 1, 2)), (1, 3)))
+        found = reduced(((0, 2, 1, 0, 1), (0, 0, 0, 3, 1)), 5, 5)
+        self.assertEqual(found, (((0, 1, 3, 0, 3), (0, 0, 0, 1, 2)), (1, 3)))
 
     def test_rows_of_zeros_and_rows_told_twice(self):
         self.assertEqual(reduced(((0, 0), (0, 0)), 2, 2), ((), ()))
