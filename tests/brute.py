@@ -1,5 +1,6 @@
 """Slow and plain ways to the same results, which use nothing of the program."""
 
+from functools import cache
 from itertools import product
 from random import Random
 
@@ -56,3 +57,73 @@ def larger_tables():
                 rows = base + sums + base[:1] + [(0,) * width]
                 chance.shuffle(rows)
                 yield p, width, tuple(rows)
+
+
+def sum_words(v, w, p):
+    """The sum of two words."""
+    return total((v, w), (1, 1), len(v), p)
+
+
+def subspaces(p, n):
+    """Pairs (rows, words) of all codes: rows that span them, and the set of their words."""
+    found = {frozenset({(0,) * n}): ()}
+    todo = list(found)
+    for space in todo:
+        for word in all_words(p, n):
+            rows = (*found[space], word)
+            if word not in space:
+                larger = frozenset(span(rows, n, p))
+                if larger not in found:
+                    found[larger] = rows
+                    todo.append(larger)
+    return [(rows, space) for space, rows in found.items()]
+
+
+@cache
+def small_codes():
+    """Tuples (p, n, rows, words) of all codes of some small lengths."""
+    lengths = ((2, 0), (2, 1), (2, 2), (2, 3), (2, 4), (3, 0), (3, 1), (3, 2), (3, 3),
+               (5, 0), (5, 1), (5, 2), (7, 0), (7, 1), (7, 2))
+    return [(p, n, rows, words) for p, n in lengths for rows, words in subspaces(p, n)]
+
+
+@cache
+def sample_codes():
+    """Tuples (p, n, rows, words) of some codes of lengths whose words can still all be gone over."""
+    chance = Random(31)
+    found = []
+    for p, n in ((2, 5), (2, 6), (2, 7), (2, 8), (3, 4), (3, 5), (5, 3), (5, 4), (7, 3)):
+        for count in range(n + 1):
+            rows = tuple(tuple(chance.randrange(p) for _ in range(n)) for _ in range(count))
+            found.append((p, n, rows, frozenset(span(rows, n, p))))
+    return found
+
+
+def known_codes():
+    """Tuples (p, n, rows) of codes with many maps onto themselves, and of large ones."""
+    golay = "100000011111 010000101221 001000110122 000100121012 000010122101 000001112210".split()
+    return [
+        (2, 7, ((1, 0, 0, 0, 0, 1, 1), (0, 1, 0, 0, 1, 0, 1), (0, 0, 1, 0, 1, 1, 0), (0, 0, 0, 1, 1, 1, 1))),
+        (3, 4, ((1, 0, 1, 1), (0, 1, 1, 2))),
+        (3, 11, tuple(tuple(map(int, row[1:])) for row in golay)),
+        (3, 12, tuple(tuple(map(int, row)) for row in golay)),
+        (5, 6, ((1, 1, 1, 1, 1, 0), (0, 1, 2, 3, 4, 1))),
+        (7, 8, ((1,) * 7 + (0,), tuple(range(7)) + (0,), tuple(x * x % 7 for x in range(7)) + (1,))),
+        (2, 12, tuple(all_words(2, 12)[1 << at] for at in range(12))),
+    ]
+
+
+def weight_of(word):
+    """The number of items other than 0."""
+    return sum(1 for item in word if item)
+
+
+def distance_of(v, w):
+    """The number of places at which two words differ."""
+    return sum(1 for at in range(len(v)) if v[at] != w[at])
+
+
+def counted_weights(words, n):
+    """The numbers of words of each weight from 0 to n."""
+    weights = [weight_of(word) for word in words]
+    return tuple(weights.count(w) for w in range(n + 1))

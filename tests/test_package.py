@@ -24,6 +24,50 @@ INTERFACE = {
         "solve": ["rows", "width", "right", "p"],
         "coordinates": ["rows", "word", "p"],
     },
+    "words": {"weight": ["word"], "distance": ["v", "w"], "written": ["word"], "read_word": ["text", "p"]},
+    "code": {"Code": ["p", "n", "rows"], "sum_of": ["a", "b"], "common_part": ["a", "b"], "read_code": ["text"]},
+    "build": {
+        "zero_code": ["p", "n"],
+        "whole_code": ["p", "n"],
+        "repetition_code": ["p", "n"],
+        "zero_sum_code": ["p", "n"],
+        "of_parity_checks": ["p", "n", "rows"],
+        "direct_sum": ["a", "b"],
+        "plotkin_sum": ["a", "b"],
+        "punctured": ["code", "at"],
+        "shortened": ["code", "at"],
+        "extended": ["code"],
+        "product_code": ["a", "b"],
+    },
+    "weights": {
+        "weight_distribution": ["code"],
+        "coset_distribution": ["code", "word"],
+        "krawtchouk": ["p", "n", "j", "i"],
+        "macwilliams": ["p", "n", "numbers"],
+        "binomial_moment": ["numbers", "s"],
+        "minimum_distance": ["code"],
+        "minimum_words": ["code"],
+        "ball_size": ["p", "n", "t"],
+        "is_mds": ["code"],
+        "is_perfect": ["code"],
+        "griesmer_length": ["p", "k", "d"],
+        "reaches_griesmer": ["code"],
+    },
+}
+
+# For each class the methods that its own body defines, with the names of their arguments behind `self`.
+METHODS = {
+    ("code", "Code"): {
+        "__init__": ["p", "n", "rows"],
+        "__eq__": ["other"],
+        "__str__": [],
+        "size": [],
+        "holds": ["value"],
+        "words": [],
+        "dual": [],
+        "checks": [],
+        "syndrome": ["word"],
+    },
 }
 
 
@@ -45,6 +89,13 @@ class Package(unittest.TestCase):
                 if arguments is not None:
                     found = list(inspect.signature(getattr(module, member)).parameters)
                     self.assertEqual(found, arguments, member)
+
+    def test_methods_are_defined_in_the_class_itself(self):
+        for (name, member), methods in METHODS.items():
+            body = vars(getattr(importlib.import_module(f"weightkeepers.{name}"), member))
+            for method, arguments in methods.items():
+                self.assertIn(method, body, member)
+                self.assertEqual(list(inspect.signature(body[method]).parameters)[1:], arguments, method)
 
     def test_examples_of_the_readme(self):
         found = doctest.testfile(str(PACKAGE.parent / "README.md"), module_relative=False)
