@@ -1,7 +1,7 @@
 """Slow and plain ways to the same results, which use nothing of the program."""
 
 from functools import cache
-from itertools import product
+from itertools import permutations, product
 from random import Random
 
 PRIMES = (2, 3, 5, 7)
@@ -127,3 +127,39 @@ def counted_weights(words, n):
     """The numbers of words of each weight from 0 to n."""
     weights = [weight_of(word) for word in words]
     return tuple(weights.count(w) for w in range(n + 1))
+
+
+def monomials(p, n):
+    """Pairs (places, multiples) of all monomial maps of the length n over p, ascending."""
+    return list(product(permutations(range(n)), product(range(1, p), repeat=n)))
+
+
+def moved(places, multiples, word, p):
+    """The word that a monomial map carries a word to."""
+    sources = [places.index(at) for at in range(len(word))]
+    return tuple(word[source] * multiples[source] % p for source in sources)
+
+
+def plain_line(column, p):
+    """The multiple of a column whose first item other than 0 is 1, or the column itself."""
+    multiples = [tuple(a * item % p for item in column) for a in range(1, p)]
+    normed = [multiple for multiple in multiples if [item for item in multiple if item][:1] == [1]]
+    return normed[0] if normed else tuple(column)
+
+
+def plain_mark(words, n, p):
+    """The lines of the columns, ascending."""
+    return tuple(sorted(plain_line([word[at] for word in words], p) for at in range(n)))
+
+
+def plain_levels(words, p, n, k):
+    """The levels of a code, by going over all tuples with one word more."""
+    found = []
+    tuples = [()]
+    for _ in range(k):
+        longer = [(*held, word) for held in tuples for word in sorted(words - span(held, n, p))]
+        marks = [plain_mark(held, n, p) for held in longer]
+        least = min(marks)
+        tuples = sorted(held for held, mark in zip(longer, marks) if mark == least)
+        found.append((least, tuple(tuples)))
+    return tuple(found)

@@ -217,7 +217,8 @@ class OneCode(Building):
         for function in (punctured, shortened):
             for p in PRIMES:
                 for at in places:
-                    self.assert_malformed(function, whole_code(p, 3), at)
+                    for code in (whole_code(p, 3), zero_code(p, 3), repetition_code(p, 3)):
+                        self.assert_malformed(function, code, at)
                 for at in (0, -1, 1, None):
                     self.assert_malformed(function, zero_code(p, 0), at)
 

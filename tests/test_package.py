@@ -53,6 +53,22 @@ INTERFACE = {
         "griesmer_length": ["p", "k", "d"],
         "reaches_griesmer": ["code"],
     },
+    "nearest": {
+        "coset_leaders": ["code", "word"],
+        "nearest_words": ["code", "word"],
+        "distance_to": ["code", "word"],
+        "cosets": ["code"],
+        "covering_radius": ["code"],
+        "count_decided": ["code"],
+    },
+    "monomial": {"Monomial": ["p", "places", "multiples"], "identity": ["p", "n"]},
+    "forms": {
+        "line": ["column", "p"],
+        "mark": ["words", "n", "p"],
+        "levels": ["code"],
+        "least_table": ["code"],
+        "form": ["code"],
+    },
 }
 
 # For each class the methods that its own body defines, with the names of their arguments behind `self`.
@@ -67,6 +83,14 @@ METHODS = {
         "dual": [],
         "checks": [],
         "syndrome": ["word"],
+    },
+    ("monomial", "Monomial"): {
+        "__init__": ["p", "places", "multiples"],
+        "__eq__": ["other"],
+        "carried": ["word"],
+        "code": ["code"],
+        "after": ["other"],
+        "undone": [],
     },
 }
 
