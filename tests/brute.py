@@ -163,3 +163,24 @@ def plain_levels(words, p, n, k):
         tuples = sorted(held for held, mark in zip(longer, marks) if mark == least)
         found.append((least, tuple(tuples)))
     return tuple(found)
+
+
+def spoiled(value):
+    """Values that differ from this one in the kind of one thing, or in the number of things in one tuple."""
+    yield from (None, "", (), [], value if isinstance(value, list) else [value], (value,), {0: value})
+    if isinstance(value, int):
+        yield from (str(value), [value], value + 10 ** 20, -1 - value)
+        if value in (0, 1):
+            yield value == 1
+    if isinstance(value, tuple):
+        yield list(value)
+        yield value + value[:1] if value else (0,)
+        yield (*value, ())
+        yield value[:-1] if value else (None,)
+        for at, item in enumerate(value):
+            for wrong in spoiled(item):
+                if wrong != item or isinstance(wrong, bool):
+                    yield (*value[:at], wrong, *value[at + 1:])
+            yield value[:at] + value[at + 1:]
+    if isinstance(value, str):
+        yield from (value + " ", value.upper(), value[:-1], 0, True)

@@ -69,7 +69,70 @@ INTERFACE = {
         "least_table": ["code"],
         "form": ["code"],
     },
+    "maps": {
+        "alike": ["a", "b"],
+        "find_map": ["a", "b"],
+        "all_maps": ["a", "b"],
+        "automorphisms": ["code"],
+        "group_order": ["code"],
+        "image": ["a", "images", "word"],
+        "changed_weight": ["a", "images"],
+        "extension": ["a", "images"],
+    },
+    "cyclic": {
+        "times": ["a", "b", "p"],
+        "divided": ["a", "b", "p"],
+        "common_divisor": ["a", "b", "p"],
+        "unit_polynomial": ["p", "n"],
+        "factors_of_unit": ["p", "n"],
+        "divisors_of_unit": ["p", "n"],
+        "shifted": ["word"],
+        "is_cyclic": ["code"],
+        "cyclic_code": ["p", "n", "g"],
+        "all_cyclic": ["p", "n"],
+        "generator_polynomial": ["code"],
+        "check_polynomial": ["code"],
+    },
+    "papers": {
+        "distance_paper": ["code"],
+        "pair_paper": ["a", "b"],
+        "map_paper": ["a", "images"],
+        "nearest_paper": ["code", "word"],
+    },
+    "checker": {
+        "takes_distance": ["code", "paper"],
+        "takes_pair": ["a", "b", "paper"],
+        "takes_map": ["a", "images", "paper"],
+        "takes_nearest": ["code", "word", "paper"],
+    },
+    "sheet": {"read_line": ["line"]},
+    "replies": {
+        "Reply": ["kind", "text", "data"],
+        "reply_to": ["names", "line"],
+        "defined": ["names", "line"],
+        "is_right": ["names", "entry"],
+    },
+    "log": {
+        "write_data": ["data"],
+        "read_data": ["text"],
+        "write_log": ["entries"],
+        "read_log": ["text"],
+        "first_wrong": ["entries"],
+    },
+    "console": {"Console": ["most"]},
 }
+
+# The modules of each chapter; those that the interface does not list stand with the first one.
+CHAPTERS = (
+    ("errors", "whole", "linear", "values", "numerals"),
+    ("words", "code", "build"),
+    ("weights",),
+    ("nearest",),
+    ("monomial", "forms", "maps"),
+    ("cyclic",),
+    ("papers", "checker"),
+    ("sheet", "replies", "log", "console"),
+)
 
 # For each class the methods that its own body defines, with the names of their arguments behind `self`.
 METHODS = {
@@ -91,6 +154,15 @@ METHODS = {
         "code": ["code"],
         "after": ["other"],
         "undone": [],
+    },
+    ("replies", "Reply"): {"__init__": ["kind", "text", "data"], "__eq__": ["other"]},
+    ("console", "Console"): {
+        "__init__": ["most"],
+        "__len__": [],
+        "__iter__": [],
+        "enter": ["line"],
+        "names": [],
+        "log": [],
     },
 }
 
@@ -120,6 +192,20 @@ class Package(unittest.TestCase):
             for method, arguments in methods.items():
                 self.assertIn(method, body, member)
                 self.assertEqual(list(inspect.signature(body[method]).parameters)[1:], arguments, method)
+
+    def test_each_chapter_uses_only_those_before_it(self):
+        places = {name: at for at, names in enumerate(CHAPTERS) for name in names}
+        self.assertEqual(sorted([*places, "__init__"]), sorted(path.stem for path in PACKAGE.glob("*.py")))
+        for name, at in places.items():
+            for part in ast.parse((PACKAGE / f"{name}.py").read_text(encoding="utf-8")).body:
+                if isinstance(part, ast.ImportFrom) and part.module.startswith("weightkeepers."):
+                    self.assertLessEqual(places[part.module.split(".")[1]], at, name)
+
+    def test_defaults(self):
+        reply = inspect.signature(importlib.import_module("weightkeepers.replies").Reply).parameters
+        self.assertEqual((reply["text"].default, reply["data"].default), ("", ()))
+        most = inspect.signature(importlib.import_module("weightkeepers.console").Console).parameters["most"]
+        self.assertEqual((most.default, most.kind), (300, inspect.Parameter.KEYWORD_ONLY))
 
     def test_examples_of_the_readme(self):
         found = doctest.testfile(str(PACKAGE.parent / "README.md"), module_relative=False)
