@@ -2,6 +2,7 @@ import ast
 import unittest
 from itertools import chain, combinations, permutations, product
 from pathlib import Path
+from random import Random
 
 from brute import (ODD_VALUES, PRIMES, all_words, distance_of, known_codes, monomials, moved, plain_levels,
                    sample_codes, small_codes, spoiled, total, weight_of)
@@ -274,7 +275,8 @@ class Unlike(Checking):
         for p in PRIMES:
             for n in (0, 1, 12):
                 code = zero_code(p, n)
-                papers = [("unlike", (), ()), ("unlike", (((), ()),), (((), ()),)), ("unlike", ((((),) * n, ((),)),), ())]
+                papers = [("unlike", (), ()), ("unlike", (((), ()),), (((), ()),)),
+                          ("unlike", ((((),) * n, ((),)),), ())]
                 self.assert_refuses(lambda paper: takes_pair(code, code, paper), papers)
 
     def test_levels_of_small_codes(self):
@@ -317,9 +319,11 @@ class Unlike(Checking):
                     yield found[:at] + (wrong,) + found[at + 1:]
 
     def test_wrong_values(self):
-        for a, b in ((read_code("2 2: 11"), read_code("2 2: 10")), (read_code("3 3: 102 011"), read_code("3 3: 100 010")),
+        for a, b in ((read_code("2 2: 11"), read_code("2 2: 10")),
+                     (read_code("3 3: 102 011"), read_code("3 3: 100 010")),
                      (repetition_code(2, 2), zero_code(2, 2))):
-            self.assert_refuses(lambda paper: takes_pair(a, b, paper), [p for p in NO_PAPERS if p != ("unlike", (), ())])
+            self.assert_refuses(lambda paper: takes_pair(a, b, paper),
+                                [p for p in NO_PAPERS if p != ("unlike", (), ())])
             self.assert_refuses_spoiled(lambda paper: takes_pair(a, b, paper), pair_paper(a, b))
 
     def test_too_many_tuples(self):
@@ -359,6 +363,31 @@ class Unlike(Checking):
                 except Refused:
                     continue
                 self.assertIs(takes_pair(a, b, paper), True)
+
+
+    def test_levels_of_many_kinds(self):
+        chance = Random(23)
+        unlike = 0
+        for p, n, k in ((2, 10, 4), (2, 12, 5), (2, 9, 6), (3, 8, 3), (3, 7, 3), (3, 6, 4), (5, 6, 2), (5, 7, 3),
+                        (7, 6, 2), (7, 5, 3), (7, 12, 2)):
+            for _ in range(6):
+                a, b = (Code(p, n, [tuple(chance.randrange(p) if chance.random() < 0.6 else 0 for _ in range(n))
+                                    for _ in range(k)]) for _ in range(2))
+                if a.k == b.k:
+                    paper = pair_paper(a, b)
+                    unlike += paper[0] == "unlike"
+                    self.assertIs(takes_pair(a, b, paper), True)
+        self.assertGreater(unlike, 20)
+
+    def test_marks_that_differ_in_a_late_line(self):
+        # The order of the marks is decided behind the first lines that can still differ.
+        for text in ("3 9: 100220210 010121021 001222002", "5 8: 10000403 01003331 00100033"):
+            a = read_code(text)
+            b = Code(a.p, a.n, a.rows[:2] + ((0,) * (a.n - 1) + (1,),))
+            told = plain_levels(set(a.words()), a.p, a.n, 3), plain_levels(set(b.words()), a.p, a.n, 3)
+            self.assertIs(takes_pair(a, b, ("unlike", *told)), True)
+            self.assertIs(takes_pair(b, a, ("unlike", *told[::-1])), True)
+            self.assertEqual(pair_paper(a, b), ("unlike", *told))
 
 
 class Apart(unittest.TestCase):

@@ -24,7 +24,8 @@ class Consoles(unittest.TestCase):
 
     def test_entries(self):
         console = Console()
-        lines = ["let a = 2 3: 101 011", "", "dual b a", "show b", "show c", "no line", "distance a", "alike a b", "  weights a "]
+        lines = ["let a = 2 3: 101 011", "", "dual b a", "show b", "show c", "no line", "distance a", "alike a b",
+                 "  weights a "]
         replies = [console.enter(line) for line in lines]
         self.assertEqual(len(console), len(lines))
         self.assertEqual(list(console), list(zip(lines, replies)))
@@ -36,7 +37,8 @@ class Consoles(unittest.TestCase):
     def test_replies_are_those_of_reply_to(self):
         console = Console()
         names = {}
-        for line in ("let a = 3 3: 102 012", "extended b a", "form c b", "weights c", "dual a a", "weights a", "sum a a b"):
+        for line in ("let a = 3 3: 102 012", "extended b a", "form c b", "weights c", "dual a a", "weights a",
+                     "sum a a b"):
             self.assertEqual(console.enter(line), reply_to(names, line))
             names = console.names()
 
@@ -64,8 +66,8 @@ class Consoles(unittest.TestCase):
     def test_errors_define_nothing(self):
         console = Console()
         console.enter("let a = 2 3: 101 011")
-        for line in ("dual a b", "let a = 2 3: 1", "sum a a b", "punctured a a 3", "let b =", "shortened b a 9", "show b", "# let b = 2 1:",
-                     "weights a", "group a"):
+        for line in ("dual a b", "let a = 2 3: 1", "sum a a b", "punctured a a 3", "let b =", "shortened b a 9",
+                     "show b", "# let b = 2 1:", "weights a", "group a"):
             console.enter(line)
             self.assertEqual(console.names(), {"a": read_code("2 3: 101 011")})
         self.assertEqual(len(console), 11)
@@ -118,7 +120,8 @@ class Consoles(unittest.TestCase):
 
     def test_papers_of_unlike_codes_are_read_back(self):
         console = Console()
-        for line in ("let a = 2 6: 110000 001100 000011", "let b = 2 6: 100100 010100 001100" , "alike a b", "alike b a"):
+        for line in ("let a = 2 6: 110000 001100 000011", "let b = 2 6: 100100 010100 001100" , "alike a b",
+                     "alike b a"):
             console.enter(line)
         self.assertEqual(console.enter("alike a b").text, "no")
         self.assertEqual(read_log(console.log()), list(console))

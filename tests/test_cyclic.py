@@ -36,7 +36,8 @@ def coefficient(a, at):
 
 def plain_product(a, b, p):
     """The product, coefficient by coefficient."""
-    items = [sum(coefficient(a, i) * coefficient(b, at - i) for i in range(at + 1)) % p for at in range(len(a) + len(b))]
+    items = [sum(coefficient(a, i) * coefficient(b, at - i) for i in range(at + 1)) % p
+             for at in range(len(a) + len(b))]
     while items and items[-1] == 0:
         items.pop()
     return tuple(items)

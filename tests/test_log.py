@@ -24,15 +24,17 @@ PLAIN = ("'abc'", "()", "((),)", "((0,),)")
 
 NO_DATA = [value for value in ODD_VALUES if repr(value) not in PLAIN] + [
     "A", "a1", "a b", "abcdefghijklm", " a", "a ", "-", "a\n", "\u00e4", [1], (1, [2]), (True,), (1, False), (1, None),
-    (1, ("",)), ((1, "A"),), zero_code(2, 2), (zero_code(2, 2),), identity(2, 2), NoText(0), Reply("a"), (1, Reply("a")),
+    (1, ("",)), ((1, "A"),), zero_code(2, 2), (zero_code(2, 2),), identity(2, 2), NoText(0), Reply("a"),
+    (1, Reply("a")),
 ]
 
 NO_FORMS = [
-    "", " ", "00", "01", "-0", "-00", "-01", "+1", "--1", "- 1", "1-", "1.0", "1e3", "1_0", "0x1", "1 ", " 1", "1 2", "a b", "(", ")",
-    ")(", "((", "))", "(()", "())", "( )", "( 1)", "(1 )", "(1  2)", " (1)", "(1) ", "(1)(2)", "(1) (2)", "(1(2))", "((1)2)",
-    "(1 (2)3)", "()()", "() ()", "(a,b)", "[1]", "A", "aB", "a1", "1a", "abcdefghijklm", "(abcdefghijklm)", "(A)", "(01)",
-    "(-0)", "(1\n2)", "1\n", "\n", "(1\t2)", "\u0661", "\u00b2", "\uff11", "\u00e4", "True", "None", "(1,)", "'a'", "(", "-", "(-)",
-    "( () )", "(() )", "( ())", "a(", "(a", "a)", "()a", "a()", "1()", "()1", "(1 2", "1 2)", "\u00a01", "1\u00a0", "(1\u00a02)",
+    "", " ", "00", "01", "-0", "-00", "-01", "+1", "--1", "- 1", "1-", "1.0", "1e3", "1_0", "0x1", "1 ", " 1", "1 2",
+    "a b", "(", ")", ")(", "((", "))", "(()", "())", "( )", "( 1)", "(1 )", "(1  2)", " (1)", "(1) ", "(1)(2)",
+    "(1) (2)", "(1(2))", "((1)2)", "(1 (2)3)", "()()", "() ()", "(a,b)", "[1]", "A", "aB", "a1", "1a", "abcdefghijklm",
+    "(abcdefghijklm)", "(A)", "(01)", "(-0)", "(1\n2)", "1\n", "\n", "(1\t2)", "\u0661", "\u00b2", "\uff11", "\u00e4",
+    "True", "None", "(1,)", "'a'", "(", "-", "(-)", "( () )", "(() )", "( ())", "a(", "(a", "a)", "()a", "a()", "1()",
+    "()1", "(1 2", "1 2)", "\u00a01", "1\u00a0", "(1\u00a02)",
 ]
 
 
@@ -107,8 +109,8 @@ class Data(unittest.TestCase):
     def test_no_forms(self):
         for text in NO_FORMS:
             self.assert_no_form(text)
-        for value in [value for value in ODD_VALUES if not isinstance(value, str)] + [0, 5, -1, ("1",), ["1"], ("a",),
-                                                                                     zero_code(2, 2), NoText(0)]:
+        odd = [value for value in ODD_VALUES if not isinstance(value, str)]
+        for value in odd + [0, 5, -1, ("1",), ["1"], ("a",), zero_code(2, 2), NoText(0)]:
             self.assert_no_form(value)
 
     def test_all_short_texts(self):
@@ -133,8 +135,8 @@ class Data(unittest.TestCase):
         self.assertEqual(len(texts), sum(7 ** length for length in range(6)))
 
     def test_long_texts(self):
-        for text in ("(" * 10 ** 6, ")" * 10 ** 6, " " * 10 ** 6, "a" * 10 ** 6, "()" * 10 ** 5, "0" * 10 ** 6, "-" * 10 ** 6,
-                     "(" * 20 + "1 " * 10 ** 5 + ")" * 20, "(" + "()" * 10 ** 5 + ")"):
+        for text in ("(" * 10 ** 6, ")" * 10 ** 6, " " * 10 ** 6, "a" * 10 ** 6, "()" * 10 ** 5, "0" * 10 ** 6,
+                     "-" * 10 ** 6, "(" * 20 + "1 " * 10 ** 5 + ")" * 20, "(" + "()" * 10 ** 5 + ")"):
             self.assert_no_form(text)
         self.assertEqual(read_data("(" + " ".join(["()"] * 10 ** 5) + ")"), ((),) * 10 ** 5)
 
@@ -147,9 +149,9 @@ def entries_of(*lines):
     return list(console)
 
 
-LINES = ("let a = 2 4: 1010 0101", "# a remark", "let b = 2 4: 1001 0100", "alike a b", "distance b", "nearest a 1000", "",
-         "dual a a", "dual c x", "weights a", "syndrome a 1111", "no line", "distance a", "alike a a", "let a = 3 1:", "show a",
-         "distance a", "group b", "radius b", "cyclic b", "let b = 2 4: 1000", "distance b")
+LINES = ("let a = 2 4: 1010 0101", "# a remark", "let b = 2 4: 1001 0100", "alike a b", "distance b", "nearest a 1000",
+         "", "dual a a", "dual c x", "weights a", "syndrome a 1111", "no line", "distance a", "alike a a",
+         "let a = 3 1:", "show a", "distance a", "group b", "radius b", "cyclic b", "let b = 2 4: 1000", "distance b")
 
 
 class Logs(unittest.TestCase):
@@ -175,22 +177,24 @@ class Logs(unittest.TestCase):
         self.assertTrue(all(type(entry) is tuple and type(entry[1]) is Reply for entry in found))
 
     def test_strings_and_data_of_all_kinds(self):
-        for line in ("", " ", "> ", "= a b", "# ()", "\t\r", "\u00e4\u03b1\u4e2d", "a" * 5000, "\x00", "\x0b\x0c\x1c\x85\u2028"):
+        for line in ("", " ", "> ", "= a b", "# ()", "\t\r", "\u00e4\u03b1\u4e2d", "a" * 5000, "\x00",
+                     "\x0b\x0c\x1c\x85\u2028"):
             for data in ((), (1,), nested(20), ("a", -5, (10 ** 5000,)), nested(20, 3)):
                 entries = [(line, Reply("abcdefghijkl", line, data)), (line, Reply("a", "  " + line + "  ", data))]
                 self.assertEqual(read_log(write_log(entries)), entries)
 
     def test_no_entries_to_write(self):
         good = ("show a", Reply("code", "2 2: 11", ()))
-        wrong = [*ODD_VALUES, 0, list(good), good[:1], good + ((),), (good[1], good[0]), ("a\nb", good[1]), ("\n", good[1]),
-                 (None, good[1]), (1, good[1]), (("a",), good[1]), ("a", None), ("a", ("code", "", ())), ("a", "code"),
-                 ("a", [good[1]]), good[1], "show a", (good,), zero_code(2, 2), ("a", zero_code(2, 2)), ("a", Reply)]
+        wrong = [*ODD_VALUES, 0, list(good), good[:1], good + ((),), (good[1], good[0]), ("a\nb", good[1]),
+                 ("\n", good[1]), (None, good[1]), (1, good[1]), (("a",), good[1]), ("a", None),
+                 ("a", ("code", "", ())), ("a", "code"), ("a", [good[1]]), good[1], "show a", (good,), zero_code(2, 2),
+                 ("a", zero_code(2, 2)), ("a", Reply)]
         for kind in ("", "A", "a b", "abcdefghijklm", "a1", "a\n", None, 1, True, ("a",), ["a"], "\u00e4"):
             wrong.append(("a", Reply(kind, "", ())))
         for text in ("\n", "a\n", "a\nb", None, 1, True, ("a",), ["a"], zero_code(2, 2)):
             wrong.append(("a", Reply("a", text, ())))
-        for data in (None, 1, "a", True, [], [1], nested(21), nested(22), (True,), (None,), ("A",), ("",), ([],), (1, ("a b",)),
-                     (zero_code(2, 2),), nested(50000), (Reply("a"),), zero_code(2, 2)):
+        for data in (None, 1, "a", True, [], [1], nested(21), nested(22), (True,), (None,), ("A",), ("",), ([],),
+                     (1, ("a b",)), (zero_code(2, 2),), nested(50000), (Reply("a"),), zero_code(2, 2)):
             wrong.append(("a", Reply("a", "", data)))
         for value in wrong:
             for entries in ([value], [good, value], [value, good]):
@@ -204,17 +208,18 @@ class Logs(unittest.TestCase):
         self.assertEqual(caught.exception.at, at, value)
 
     def test_no_strings(self):
-        for value in [value for value in ODD_VALUES if not isinstance(value, str)] + [0, 5, ["> a\n"], ("",), zero_code(2, 2)]:
+        odd = [value for value in ODD_VALUES if not isinstance(value, str)]
+        for value in odd + [0, 5, ["> a\n"], ("",), zero_code(2, 2)]:
             self.assert_no_log(value, 0)
 
     def test_wrong_lines(self):
         rows = ["> show a", "= code 2 2: 11", "# ()"] * 3
         wrong = (
             ("", ">", "show a", ">show a", " > show a", "= show a", "# ()", ">> a", "\t> a"),
-            ("", "=", "= ", "= code", "=code 2", "= Code 2", "=  code 2", "= code2 2", "= abcdefghijklm 2", "> a", "# ()", "= c\u00e4 2",
-             "== code 2", " = code 2", "= - 2", "= code\t2", "code 2"),
-            ("", "#", "# ", "#()", "# 5", "# a", "# ( )", "# () ", "#  ()", "# (01)", "# () ()", "# (A)", "> a", "= a b", "## ()",
-             "# (True)", "# " + "(" * 21 + ")" * 21, "# (", "()", "# -0", "# (1  2)"),
+            ("", "=", "= ", "= code", "=code 2", "= Code 2", "=  code 2", "= code2 2", "= abcdefghijklm 2", "> a",
+             "# ()", "= c\u00e4 2", "== code 2", " = code 2", "= - 2", "= code\t2", "code 2"),
+            ("", "#", "# ", "#()", "# 5", "# a", "# ( )", "# () ", "#  ()", "# (01)", "# () ()", "# (A)", "> a",
+             "= a b", "## ()", "# (True)", "# " + "(" * 21 + ")" * 21, "# (", "()", "# -0", "# (1  2)"),
         )
         for at in range(9):
             for row in wrong[at % 3]:
@@ -268,7 +273,8 @@ class FirstWrong(unittest.TestCase):
     def test_items_of_any_kind(self):
         entries = entries_of("let a = 2 2: 11", "show a")
         for value in (*ODD_VALUES, 0, "show a", list(entries[1]), entries[1][1], entries[1][:1], entries[1] + ((),),
-                      ("show a", None), ("show a", "code"), (None, entries[1][1]), zero_code(2, 2), NoText(0), [entries[1]]):
+                      ("show a", None), ("show a", "code"), (None, entries[1][1]), zero_code(2, 2), NoText(0),
+                      [entries[1]]):
             for at in range(3):
                 self.assertEqual(first_wrong(entries[:at] + [value] + entries[at:]), at)
         self.assertEqual(first_wrong([(None, Reply("error", "text")), (5, Reply("error", "text"))]), -1)
@@ -296,7 +302,8 @@ class FirstWrong(unittest.TestCase):
         lines = [(f"let {name} = {code}", Reply("code", str(code))) for name, code in names.items()]
         told = reply_to(names, "alike a b")
         self.assertEqual(told.data, pair_paper(names["a"], names["b"]))
-        papers = [("alike", (0, 1), (1, 2)), ("alike", (0, 1), (2, 1)), ("alike", (1, 0), (1, 2)), ("alike", (1, 0), (2, 1))]
+        papers = [("alike", (0, 1), (1, 2)), ("alike", (0, 1), (2, 1)), ("alike", (1, 0), (1, 2)),
+                  ("alike", (1, 0), (2, 1))]
         self.assertIn(told.data, papers)
         for paper in papers:
             self.assertEqual(first_wrong(lines + [("alike a b", Reply("alike", "yes", paper))]), -1)

@@ -143,6 +143,7 @@ class Maps(unittest.TestCase):
         codes = [zero_code(p, n) for p in PRIMES for n in (0, 1, 3, 12)]
         codes += [repetition_code(p, n) for p in PRIMES for n in (1, 3, 8)]
         codes += [whole_code(2, 12), zero_sum_code(2, 12), whole_code(3, 5), whole_code(2, 3)]
+        codes += [whole_code(2, 7), zero_sum_code(2, 8), whole_code(5, 4), read_code(MANY)]
         for a, b in product(codes, repeat=2):
             if (a.p, a.n, a.k) != (b.p, b.n, b.k):
                 self.assertIs(alike(a, b), False)
@@ -172,7 +173,13 @@ class Maps(unittest.TestCase):
         self.assert_refused("many", all_maps, many, moved_code)
         self.assertIs(alike(many, moved_code), True)
         # Codes that are not alike have no maps, and so not too many.
-        self.assertEqual(all_maps(many, read_code("7 8: 10000000 01000000 00100000")), ())
+        units = read_code("7 8: 10000000 01000000 00100000")
+        self.assertEqual(all_maps(many, units), ())
+        self.assertEqual(all_maps(units, many), ())
+        # Neither the tuples nor the ways to carry one to another are too many, but both together.
+        self.assertEqual(group_order(read_code("7 4: 1000 0100")), (2 * 36) * (2 * 36))
+        self.assert_refused("many", automorphisms, read_code("7 4: 1000 0100"))
+        self.assertEqual(len(automorphisms(read_code("5 4: 1000 0100"))), (2 * 16) * (2 * 16))
 
     def test_many_maps_are_counted_without_making_them(self):
         for p in PRIMES:
@@ -291,8 +298,8 @@ class Images(unittest.TestCase):
     def test_no_words_of_the_code(self):
         code = read_code("3 3: 102 012")
         words = set(code.words())
-        odd = [*ODD_VALUES, 0, [0, 0, 0], "000", (0, 0), (0, 0, 0, 0), (True, 0, 2), (1, 0, 5), (-2, 0, 2), (1, False, 2),
-               ((0, 0, 0),), code, identity(3, 3), NoText(0)]
+        odd = [*ODD_VALUES, 0, [0, 0, 0], "000", (0, 0), (0, 0, 0, 0), (True, 0, 2), (1, 0, 5), (-2, 0, 2),
+               (1, False, 2), ((0, 0, 0),), code, identity(3, 3), NoText(0)]
         for value in odd + [word for word in all_words(3, 3) if word not in words]:
             with self.assertRaises(Malformed):
                 image(code, ((1, 0), (2, 2)), value)

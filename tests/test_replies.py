@@ -28,8 +28,8 @@ NAMES = {
 }
 
 NO_LINES = [value for value in ODD_VALUES if value != ""] + [
-    0, 7, "dual", "show a\n", "Show a", "show a b", "nearest a", "let x = 2 2: 2", " #", "x" * 2001, ["show a"], ("show a",),
-    zero_code(2, 2), identity(2, 2), NoText(0), Reply("done"),
+    0, 7, "dual", "show a\n", "Show a", "show a b", "nearest a", "let x = 2 2: 2", " #", "x" * 2001, ["show a"],
+    ("show a",), zero_code(2, 2), identity(2, 2), NoText(0), Reply("done"),
 ]
 
 
@@ -56,7 +56,8 @@ class Replies(unittest.TestCase):
 
     def test_equality_with_other_values(self):
         reply = Reply("a", "b", (1,))
-        for value in (*ODD_VALUES, 0, ("a", "b", (1,)), ["a", "b", (1,)], zero_code(2, 2), identity(2, 2), NoText(0), Reply):
+        for value in (*ODD_VALUES, 0, ("a", "b", (1,)), ["a", "b", (1,)], zero_code(2, 2), identity(2, 2), NoText(0),
+                      Reply):
             self.assertIs(reply == value, False)
             self.assertIs(reply != value, True)
             self.assertIs(value == reply, False)
@@ -157,9 +158,10 @@ class Answers(unittest.TestCase):
         self.assert_error("let x = 7 5: 10000 01000 00100 00010 00001", "text")
 
     def test_undefined_names(self):
-        lines = ["dual x no", "form x no", "extended x no", "sum x no a", "sum x a no", "common x no no", "direct x d no",
-                 "plotkin x no d", "punctured x no 0", "shortened x no 99", "show no", "weights no", "distance no",
-                 "alike no a", "alike a no", "nearest no 9", "syndrome no -", "radius no", "group no", "cyclic no", "dual no no"]
+        lines = ["dual x no", "form x no", "extended x no", "sum x no a", "sum x a no", "common x no no",
+                 "direct x d no", "plotkin x no d", "punctured x no 0", "shortened x no 99", "show no", "weights no",
+                 "distance no", "alike no a", "alike a no", "nearest no 9", "syndrome no -", "radius no", "group no",
+                 "cyclic no", "dual no no"]
         # The name comes before what the functions raise.
         lines += ["sum x d no", "direct x all no", "alike units no"]
         for line in lines:
@@ -168,10 +170,10 @@ class Answers(unittest.TestCase):
 
     def test_malformed(self):
         for line in ("sum x a d", "sum x a zero", "common x a d", "common x zero a", "direct x a d", "plotkin x a d",
-                     "plotkin x a zero", "punctured x a 4", "punctured x a 99", "shortened x a 4", "punctured x empty 0",
-                     "shortened x empty 0", "nearest a 101", "nearest a 10100", "nearest a 1012", "nearest a -",
-                     "nearest d 103", "nearest empty 0", "syndrome a 101", "syndrome a 9999", "syndrome a -",
-                     "syndrome d 300"):
+                     "plotkin x a zero", "punctured x a 4", "punctured x a 99", "shortened x a 4",
+                     "punctured x empty 0", "shortened x empty 0", "nearest a 101", "nearest a 10100", "nearest a 1012",
+                     "nearest a -", "nearest d 103", "nearest empty 0", "syndrome a 101", "syndrome a 9999",
+                     "syndrome a -", "syndrome d 300"):
             self.assert_error(line, "malformed")
 
     def test_refused(self):
@@ -180,8 +182,7 @@ class Answers(unittest.TestCase):
                              ("direct x long d", "length"), ("plotkin x all all", "length"), ("distance zero", "zero"),
                              ("distance empty", "zero"), ("alike all all", "large"), ("alike units five", "large"),
                              ("alike five units", "large"), ("radius long", "large"), ("group all", "large"),
-                             ("group units", "large"), ("cyclic b", "cyclic"),
-                             ("cyclic empty", "cyclic")):
+                             ("group units", "large"), ("cyclic b", "cyclic"), ("cyclic empty", "cyclic")):
             self.assert_error(line, f"refused {reason}")
         names = {"a": whole_code(7, 4), "b": zero_sum_code(7, 4), "c": Code(7, 4, ((0, 0, 0, 1),))}
         for line in ("direct x a b", "plotkin x a b"):
@@ -218,9 +219,10 @@ class Right(unittest.TestCase):
             self.assert_right(line, Reply(reply.kind, reply.text, data), same, names)
 
     def test_lines_without_papers(self):
-        for line in ("let x = 2 3: 101 011", "dual x a", "form x a", "extended x d", "sum x a b", "common x a b", "show a",
-                     "direct x a zero", "plotkin x a e", "punctured x d 1", "shortened x d 1", "weights a", "weights empty",
-                     "syndrome a 1000", "syndrome empty -", "radius e", "group e", "cyclic turned", "", "# dual x a"):
+        for line in ("let x = 2 3: 101 011", "dual x a", "form x a", "extended x d", "sum x a b", "common x a b",
+                     "show a", "direct x a zero", "plotkin x a e", "punctured x d 1", "shortened x d 1", "weights a",
+                     "weights empty", "syndrome a 1000", "syndrome empty -", "radius e", "group e", "cyclic turned", "",
+                     "# dual x a"):
             self.assertNotEqual(reply_to(NAMES, line).kind, "error")
             self.assert_exactly(line)
 
@@ -298,6 +300,15 @@ class Right(unittest.TestCase):
             self.assert_right(line, Reply(kind, "0000 1111", paper), False)
         self.assert_right("nearest e 0001", Reply("words", "0000 1111", paper), False)
 
+    def test_papers_for_what_is_no_word(self):
+        # These would be nearest words, if only the places that both have were looked at.
+        for digits, d, word in (("101", 0, "1010"), ("10100", 0, "1010"), ("10103", 0, "1010"), ("1910", 1, "1010")):
+            paper = ("nearest", d, (tuple(map(int, word)),))
+            self.assert_right(f"nearest a {digits}", Reply("words", word, paper), False)
+            self.assert_right(f"nearest a {digits}", Reply("error", "malformed"))
+        words = tuple(NAMES["a"].words())
+        self.assert_right("nearest a -", Reply("words", "0000 0101 1010 1111", ("nearest", 0, words)), False)
+
     def test_spoiled_replies_with_papers(self):
         for line in ("distance a", "alike a b", "alike a c", "alike a d", "nearest a 1000", "nearest empty -"):
             reply = reply_to(NAMES, line)
@@ -311,11 +322,19 @@ class Right(unittest.TestCase):
         reply = reply_to(NAMES, "show a")
         self.assertIs(is_right(NAMES, ("show a", reply)), True)
         values = [*ODD_VALUES, 0, reply, "show a", ["show a", reply], ("show a",), (reply,), ("show a", reply, ()),
-                  (reply, "show a"), ("show a", "2 4: 1010 0101"), ("show a", ("code", "2 4: 1010 0101", ())), ("show a", None),
-                  ("show a", [reply]), (("show a", reply),), {"show a": reply}, ("show a", zero_code(2, 2)), zero_code(2, 2),
-                  ((), ()), ("show a", True), identity(2, 2), NoText(0), ("show a", Reply)]
+                  (reply, "show a"), ("show a", "2 4: 1010 0101"), ("show a", ("code", "2 4: 1010 0101", ())),
+                  ("show a", None), ("show a", [reply]), (("show a", reply),), {"show a": reply},
+                  ("show a", zero_code(2, 2)), zero_code(2, 2), ((), ()), ("show a", True), identity(2, 2), NoText(0),
+                  ("show a", Reply)]
         for value in values:
             self.assertIs(is_right(NAMES, value), False)
+        for line in ("distance a", "alike a b", "nearest a 1000", "weights a", "", "no line"):
+            reply = reply_to(NAMES, line)
+            for value in (None, True, 0, reply.data, reply.text, fields(reply), [reply], (reply,), zero_code(2, 2),
+                          NoText(0)):
+                self.assertIs(is_right(NAMES, (line, value)), False)
+            self.assertIs(is_right(NAMES, [line, reply]), False)
+            self.assertIs(is_right(NAMES, (line, reply, reply)), False)
 
     def test_values_that_are_no_lines(self):
         for line in NO_LINES:
