@@ -3,11 +3,12 @@ import unittest
 from itertools import chain, combinations, permutations, product
 from pathlib import Path
 from random import Random
+from unittest.mock import patch
 
 from brute import (ODD_VALUES, PRIMES, all_words, distance_of, known_codes, monomials, moved, plain_levels,
                    sample_codes, small_codes, spoiled, total, weight_of)
-from weightkeepers import checker
-from weightkeepers.build import repetition_code, whole_code, zero_code, zero_sum_code
+from weightkeepers import checker, forms
+from weightkeepers.build import of_parity_checks, repetition_code, whole_code, zero_code, zero_sum_code
 from weightkeepers.checker import takes_distance, takes_map, takes_nearest, takes_pair
 from weightkeepers.code import Code, read_code
 from weightkeepers.errors import NoText, Refused
@@ -333,6 +334,18 @@ class Unlike(Checking):
         self.assertNotEqual(one[-1][0], other[-1][0])
         self.assertIs(takes_pair(few, many, ("unlike", one, other)), False)
         self.assertIs(takes_pair(many, few, ("unlike", other, one)), False)
+
+    def test_the_most_tuples(self):
+        # At most 2880, 1920 and 3072 tuples in a level; none of these codes are alike.
+        rows = [(1, 1, 1, 1, 1, 1), (0, 1, 1, 1, 1, 1), (0, 0, 1, 1, 1, 1)]
+        most, few, many = [of_parity_checks(5, 6, (row,)) for row in rows]
+        with patch.object(forms, "_MOST_TUPLES", 4000):
+            told_most, told_few, told_many = levels(most), levels(few), levels(many)
+        self.assertEqual([max(len(tuples) for _, tuples in told) for told in (told_most, told_few, told_many)],
+                         [2880, 1920, 3072])
+        self.assertIs(takes_pair(most, few, ("unlike", told_most, told_few)), True)
+        self.assertIs(takes_pair(few, many, ("unlike", told_few, told_many)), False)
+        self.assertIs(takes_pair(many, few, ("unlike", told_many, told_few)), False)
 
     def plain_unit_levels(self, code):
         """The levels of a code of all words that are 0 at the first place."""
